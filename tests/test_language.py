@@ -1,4 +1,8 @@
-"""The package's files against the rules of the language that can be seen in them."""
+"""The package's files against part of the language's rules.
+
+Looked at, wholly or in part: L1 to L8, L10, L12, L14 to L18, L20, L21, L25 to L27. The others, and what these say of
+how a value is used (L15, L22 to L24), are left to the eye.
+"""
 
 import ast
 import builtins
