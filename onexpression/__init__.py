@@ -1,1 +1,1 @@
-"""One expression over numbers and lists: read, written, told about, with outcomes bound to its names."""
+"""One expression over numbers and lists: read, written, worked out, folded, and others put into it."""

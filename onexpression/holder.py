@@ -1,11 +1,14 @@
 """The calls on an object that holds one expression."""
 
+from onexpression.folding import folded_parts
 from onexpression.forms import form_of
 from onexpression.letters import bytes_of
 from onexpression.outcomes import is_flat_outcome, is_value_number
-from onexpression.reading import read_text
+from onexpression.parts import are_same, is_occurrence_of, with_put_in
+from onexpression.reading import MOST_LEVELS, MOST_PARTS, read_text
 from onexpression.sorts import sort_of
 from onexpression.tokens import good_name
+from onexpression.working import worked_out
 
 LONGEST_TEXT = 3000
 LARGEST_PLACE = 999999999999999999
@@ -17,6 +20,13 @@ def occurrence_row(place, name):
     return [place, len(name)] + bytes_of(name)
 
 
+def occurrences_row(occurrences):
+    row = [len(occurrences)]
+    for occurrence in occurrences:
+        row.extend(occurrence_row(occurrence[0], occurrence[1]))
+    return row
+
+
 def occurrence_refusal(place, name):
     """The refusal of a place and the bytes of a name, or 0 if both are good."""
     if place < 0 or place > LARGEST_PLACE:
@@ -24,6 +34,23 @@ def occurrence_refusal(place, name):
     if good_name(name) == "":
         return -4
     return 0
+
+
+class GivenText:
+    """A text that is to be an expression: its refusal (0 if there is none) and the expression that it is."""
+
+    def __init__(self, refusal, expression):
+        self.refusal = refusal
+        self.expression = expression
+
+
+def given_text(text):
+    if len(text) > LONGEST_TEXT:
+        return GivenText(-1, [])
+    reader = read_text(text)
+    if reader.fault != 0:
+        return GivenText(-9, [])
+    return GivenText(0, reader.parts)
 
 
 class Holder:
@@ -59,12 +86,9 @@ class Holder:
         if self.expression is None:
             return [-2]
         names_own = 1 if any([part.head == "own" for part in self.expression]) else 0
-        occurrences = [part for part in self.expression if part.head == "occurrence"]
-        answer = [0, len(self.expression), form_of(self.expression).levels, names_own, sort_of(self.expression)]
-        answer.append(len(occurrences))
-        for part in occurrences:
-            answer.extend(occurrence_row(part.number, part.name))
-        return answer
+        occurrences = [(part.number, part.name) for part in self.expression if part.head == "occurrence"]
+        levels = form_of(self.expression).levels
+        return [0, len(self.expression), levels, names_own, sort_of(self.expression)] + occurrences_row(occurrences)
 
     def bind(self, place, name, outcome):
         refusal = occurrence_refusal(place, name)
@@ -100,6 +124,67 @@ class Holder:
             answer.extend(occurrence_row(key[0], key[1]))
             answer.extend(outcome)
         return answer
+
+    def work(self):
+        if self.expression is None:
+            return [-2]
+        return [0] + worked_out(self.expression, self.bound, self.own_number).outcome
+
+    def seen(self):
+        if self.expression is None:
+            return [-2]
+        first_looks = {}
+        for occurrence in worked_out(self.expression, self.bound, self.own_number).looked:
+            first_looks[occurrence] = True
+        return [0] + occurrences_row(list(first_looks))
+
+    def try_out(self, text):
+        given = given_text(text)
+        if given.refusal != 0:
+            return [given.refusal]
+        return [0] + worked_out(given.expression, self.bound, self.own_number).outcome
+
+    def same(self, text):
+        given = given_text(text)
+        if given.refusal != 0:
+            return [given.refusal]
+        if self.expression is None:
+            return [-2]
+        return [1 if are_same(self.expression, given.expression) else 0]
+
+    def fold(self):
+        if self.expression is None:
+            return [-2]
+        parts = folded_parts(self.expression)
+        if form_of(parts).levels > MOST_LEVELS:
+            return [-8]
+        self.hold(parts)
+        return [0, len(parts)]
+
+    def put(self, place, name, text):
+        refusal = occurrence_refusal(place, name)
+        if refusal != 0:
+            return [refusal]
+        given = given_text(text)
+        if given.refusal != 0:
+            return [given.refusal]
+        if self.expression is None:
+            return [-2]
+        word = good_name(name)
+        parts = with_put_in(self.expression, place, word, given.expression)
+        if len(parts) > MOST_PARTS:
+            return [-10]
+        if form_of(parts).levels > MOST_LEVELS:
+            return [-8]
+        replaced = [part for part in self.expression if is_occurrence_of(part, place, word)]
+        self.hold(parts)
+        return [0, len(replaced)]
+
+    def back(self):
+        if len(self.kept) == 0:
+            return [-11]
+        self.expression = self.kept.pop()
+        return [0]
 
 
 class Cursor:
@@ -155,6 +240,36 @@ def call_bindings(holder, cursor):
     return holder.bindings()
 
 
+def call_work(holder, cursor):
+    return holder.work()
+
+
+def call_seen(holder, cursor):
+    return holder.seen()
+
+
+def call_try_out(holder, cursor):
+    return holder.try_out(cursor.take_row())
+
+
+def call_same(holder, cursor):
+    return holder.same(cursor.take_row())
+
+
+def call_fold(holder, cursor):
+    return holder.fold()
+
+
+def call_put(holder, cursor):
+    place = cursor.take_number()
+    name = cursor.take_row()
+    return holder.put(place, name, cursor.take_row())
+
+
+def call_back(holder, cursor):
+    return holder.back()
+
+
 CALLS = {
     0: call_read,
     1: call_form,
@@ -163,6 +278,13 @@ CALLS = {
     4: call_free,
     5: call_own,
     6: call_bindings,
+    7: call_work,
+    8: call_seen,
+    9: call_try_out,
+    10: call_same,
+    11: call_fold,
+    12: call_put,
+    13: call_back,
 }
 
 

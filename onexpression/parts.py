@@ -79,3 +79,26 @@ def built(expression, build):
         made = made[:first]
         made.append(build(part, arguments))
     return made[0]
+
+
+def is_occurrence_of(part, place, name):
+    return part.head == "occurrence" and part.number == place and part.name == name
+
+
+def with_put_in(expression, place, name, inserted):
+    """The expression with the inserted one in the place of every occurrence of this place and name."""
+    parts = []
+    for part in expression:
+        if is_occurrence_of(part, place, name):
+            parts.extend(inserted)
+        else:
+            parts.append(part)
+    return parts
+
+
+def told_by(expression):
+    return [(part.head, part.count, part.number, part.name) for part in expression]
+
+
+def are_same(first, second):
+    return told_by(first) == told_by(second)

@@ -1,12 +1,7 @@
 import unittest
 
-from tests.helper import BINDINGS, FORM, asked, bind, free, last, own, read, row
-
-LARGEST = 999999999999999999
-WRONG_NAMES = ["", "if", "then", "else", "A", "Ab", "1a", "a_", "_a", "a b", " a", "a ", "a\n", "a.b", "2.a", "-a",
-               "a" * 13, "a" * 100, "\xe4", "a\xe4", "\0"]
-GOOD_NAMES = ["a", "z", "len", "iff", "aB3", "a23456789012", "zzzzzzzzzzzz", "thenElse"]
-WRONG_PLACES = [-1, -LARGEST - 1, LARGEST + 1]
+from tests.helper import (BINDINGS, FORM, GOOD_NAMES, LARGEST, WRONG_NAMES, WRONG_PLACES, asked, bind, free, last, own,
+                          read, row)
 
 
 def bound(*bindings):
