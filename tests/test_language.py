@@ -1,7 +1,8 @@
 """The package's files against part of the language's rules.
 
-Looked at, wholly or in part: L1 to L8, L10, L12, L14 to L18, L20, L21, L25 to L27. The others, and what these say of
-how a value is used (L15, L22 to L24), are left to the eye.
+Looked at, wholly or in part: L1 to L8, L10, L12 to L28. Where that is simpler to see, more is asked than the rules do:
+no set, no lambda, no error taken or raised, no method with two underscores but __init__. The others (L9, L11) and what
+is left of these are left to the eye.
 """
 
 import ast
@@ -26,6 +27,7 @@ OWN_NAMES = set("""len range enumerate zip min max sum abs sorted reversed int s
 METHODS = set("""append clear copy count endswith extend find get index insert isalnum isalpha isdigit islower isspace
     isupper items join keys ljust lower lstrip partition pop remove replace reverse rfind rjust rpartition rsplit
     rstrip setdefault split splitlines startswith strip update upper values zfill bit_length""".split())
+CHANGES = set("append clear extend insert pop remove reverse setdefault update".split())
 OBJECT_VALUES = set("count index title find get join lower upper split strip copy add".split())
 TAKEN = {name for kind in (str, int, list, dict, set, bytes, tuple) for name in dir(kind)}
 UNUSED = set("""register mro elements open input version_info with_traceback add_note attrgetter breakpoint builtins
@@ -164,6 +166,71 @@ class LanguageTest(unittest.TestCase):
                 if isinstance(node, (ast.FunctionDef, ast.ClassDef)):
                     self.assertRegex(node.name, PLAIN_NAME, where)
                     self.assertNotIn(node.name, UNUSED, where)
+
+    def test_what_the_package_does_without(self):
+        for where, node in self.nodes():
+            self.assertNotIsInstance(node, (ast.Set, ast.Lambda, ast.Try, ast.Raise, ast.Pow, ast.JoinedStr), where)
+            if isinstance(node, ast.Name):
+                self.assertNotIn(node.id, ("set", "frozenset"), where)
+            if isinstance(node, ast.FunctionDef) and node.name.startswith("__"):
+                self.assertEqual(node.name, "__init__", where)
+                self.assertFalse([inner for inner in ast.walk(node) if isinstance(inner, ast.Return)], where)
+
+    def test_own_names_are_called_where_they_stand(self):
+        walked = [node.iter for _, node in self.nodes(ast.For, ast.comprehension)]
+        called = [node.func for _, node in self.nodes(ast.Call)]
+        for where, node in self.nodes(ast.Name):
+            if node.id in OWN_NAMES:
+                self.assertIn(node, called, where)
+        for where, node in self.nodes(ast.Call):
+            name = node.func.id if isinstance(node.func, ast.Name) else getattr(node.func, "attr", "")
+            if name in ("zip", "enumerate", "reversed", "range", "items", "keys", "values"):
+                self.assertIn(node, walked, where)
+            for keyword in node.keywords:
+                self.assertIn((name, keyword.arg), [("max", "default"), ("min", "default")], where)
+
+    def test_what_is_walked_is_not_changed(self):
+        for where, loop in self.nodes(ast.For):
+            names = {ast.unparse(node) for node in ast.walk(loop.iter) if isinstance(node, (ast.Name, ast.Attribute))}
+            for node in ast.walk(loop):
+                if isinstance(node, ast.Call) and isinstance(node.func, ast.Attribute) and node.func.attr in CHANGES:
+                    self.assertNotIn(ast.unparse(node.func.value), names, where)
+                if isinstance(node, ast.Subscript) and isinstance(node.ctx, ast.Store):
+                    self.assertNotIn(ast.unparse(node.value), names, where)
+
+    def test_lists_and_dicts_of_a_file_are_only_read(self):
+        kept = {node.targets[0].id for tree in self.trees.values() for node in tree.body
+                if isinstance(node, ast.Assign) and isinstance(node.value, (ast.List, ast.Dict))}
+        for where, node in self.nodes(ast.Assign):
+            if isinstance(node.targets[0], ast.Name) and node.targets[0].id in kept:
+                within = [inner for inner in ast.walk(node.value) if inner is not node.value]
+                self.assertFalse([inner for inner in within if isinstance(inner, (ast.List, ast.Dict))], where)
+        read = [node.value for _, node in self.nodes(ast.Subscript) if isinstance(node.ctx, ast.Load)]
+        read += [node.comparators[0] for _, node in self.nodes(ast.Compare)
+                 if isinstance(node.ops[0], (ast.In, ast.NotIn))]
+        read += [node.func.value for _, node in self.nodes(ast.Call)
+                 if isinstance(node.func, ast.Attribute) and node.func.attr == "get"]
+        for where, node in self.nodes(ast.Name):
+            if node.id in kept and isinstance(node.ctx, ast.Load):
+                self.assertIn(node, read, where)
+
+    def test_classes_are_only_called(self):
+        classes = {node.name for _, node in self.nodes(ast.ClassDef)}
+        called = [node.func for _, node in self.nodes(ast.Call)]
+        for where, node in self.nodes(ast.Name):
+            if node.id in classes:
+                self.assertIn(node, called, where)
+
+    def test_inner_functions_assign_nothing_of_what_is_around_them(self):
+        for where, outer in self.nodes(ast.FunctionDef):
+            for inner in ast.walk(outer):
+                if isinstance(inner, ast.FunctionDef) and inner is not outer:
+                    names = [name.id for name in ast.walk(inner) if isinstance(name, ast.Name)
+                             and isinstance(name.ctx, ast.Store)]
+                    around = [given.arg for given in outer.args.args]
+                    around += [name.id for statement in outer.body if statement is not inner
+                               for name in ast.walk(statement) if isinstance(name, ast.Name)]
+                    self.assertFalse(set(names) & set(around), where)
 
     def test_methods_and_values(self):
         methods = {node.name for _, found in self.nodes(ast.ClassDef) for node in found.body
